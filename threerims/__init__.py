@@ -1,0 +1,1 @@
+"""Threerims: integer triangles with three given borders."""
