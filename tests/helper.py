@@ -5,10 +5,13 @@ so that they do not repeat the program's own way.
 """
 
 import faulthandler
+import functools
+import itertools
 import sys
 import unittest
 
 SIZES = (1, 2, 3, 4, 5, 6)
+DIRECTIONS = ("flat", "left", "right")
 E = ((0,), (1, 2), (1, 2, 2))
 HUGE = 10 ** 45 + 7
 THOUSAND_DIGITS = 10 ** 999 + 3
@@ -116,8 +119,11 @@ class Numbers:
         self.state = seed * 2654435761 + 12345
 
     def below(self, bound):
-        self.state = (self.state * 6364136223846793005 + 1442695040888963407) % 2 ** 64
-        return (self.state >> 33) % bound
+        found, reach = 0, 1
+        while reach == 1 or reach < bound:
+            self.state = (self.state * 6364136223846793005 + 1442695040888963407) % 2 ** 64
+            found, reach = (found << 31) + (self.state >> 33), reach << 31
+        return found % bound
 
     def between(self, low, high):
         return low + self.below(high - low + 1)
@@ -138,7 +144,7 @@ def cell_edges(corners):
     """Return the three edges of the cell with these vertices."""
     found = []
     for r, k in corners:
-        for direction in ("left", "flat", "right"):
+        for direction in DIRECTIONS:
             if edge_ends((direction, r, k))[1] in corners:
                 found.append((direction, r, k))
     return found
@@ -281,3 +287,397 @@ def big_samples(size):
 def samples(size):
     """Return arrays of this size, concave and not concave."""
     return concave_samples(size) + other_samples(size) + big_samples(size)
+
+
+def wrong_partitions():
+    """Return triples (label, value, position) for values that are not partitions."""
+    found = [("number", 0, None), ("huge number", HUGE, None)]
+    found.extend((label, value, None) for label, value in not_integers() if not isinstance(value, tuple))
+    found.extend([
+        ("empty", (), None),
+        ("seven", (7, 6, 5, 4, 3, 2, 1), None),
+        ("seven equal", (0,) * 7, None),
+        ("seven wrong", (True,) * 7, None),
+        ("sevenfold", doubled(0, width=7), None),
+        ("many", (0,) * 1000, None),
+        ("list", [2, 1], None),
+        ("doubled", doubled(1), 0),
+        ("tripled", doubled(1, width=3), 0),
+        ("nested", nested(1), 0),
+        ("ascending", (2, 3), 1),
+        ("ascending below 0", (-2, -1), 1),
+        ("huge ascending", (HUGE, HUGE + 1), 1),
+        ("longest ascending", (-THOUSAND_DIGITS, THOUSAND_DIGITS), 1),
+        ("first of two", (1, 2, 3), 1),
+        ("down and up", (3, 1, 2), 2),
+        ("up and down", (1, 3, 2), 1),
+        ("last", (5, 4, 3, 2, 1, 2), 5),
+        ("wrong item before ascending items", (True, 1, 5), 0),
+        ("ascending items before wrong item", (1, 5, True), 1),
+        ("equal to the item before", (1, True), 1),
+        ("equal to 0", (0, False), 1),
+    ])
+    for size in SIZES:
+        for position in range(size):
+            steps = tuple(range(size, 0, -1))
+            for label, value in not_integers():
+                found.append((label, steps[:position] + (value,) + steps[position + 1:], position))
+    return found
+
+
+def replaced(array, row, value):
+    return array[:row] + (value,) + array[row + 1:]
+
+
+def wrong_arrays():
+    """Return triples (label, value, row) for values that are not arrays."""
+    found = [("number", 0, None), ("huge number", HUGE, None)]
+    found.extend((label, value, None) for label, value in not_integers() if not isinstance(value, tuple))
+    found.extend([
+        ("no rows", (), None),
+        ("one row", ((0,),), None),
+        ("size 7", make(7, lambda r, k: r + k), None),
+        ("eight wrong rows", (None,) * 8, None),
+        ("many rows", ((0,),) * 1000, None),
+        ("list", [(0,), (1, 2)], None),
+        ("list of lists", [[0], [1, 2]], None),
+        ("tuple of lists", ([0], [1, 2]), 0),
+        ("partition", (3, 2, 1), 0),
+        ("doubled", doubled(1), 0),
+        ("doubled empty tuple", doubled(()), 0),
+        ("tripled", doubled(0, width=3), 0),
+        ("nested", (nested(0), (1, 2)), 0),
+        ("upside down", ((1, 2), (0,)), 0),
+        ("two wrong rows", ((0,), (1,), (2,)), 1),
+        ("wrong row 0 first", ((1,), (1,), (2,)), 0),
+        ("wrong entry before wrong row", ((0,), (1, None), ()), 1),
+        ("wrong row before wrong entry", ((0,), (1, 2, 3), (None,) * 3), 1),
+    ])
+    for size in SIZES:
+        array = make(size, lambda r, k: 7 * r - k * k)
+        for wrong in ((1,), (-1,), (HUGE,), (-THOUSAND_DIGITS,), (True,), (False,), (), (0, 0), [0], 0, None):
+            found.append(("row 0", replaced(array, 0, wrong), 0))
+        for row in range(size + 1):
+            for wrong in (array[row][1:], array[row] + (0,), list(array[row]), set(array[row]), str(row), row, None,
+                          (array[row],), doubled(0), Plain()):
+                found.append(("row " + str(row), replaced(array, row, wrong), row))
+        for row, place in vertices(size):
+            for label, value in not_integers():
+                found.append((label, replaced(array, row, replaced(array[row], place, value)), row))
+    return found
+
+
+def wrong_rhombuses(size):
+    """Return pairs (label, value) for values that are not rhombuses of a triangle of this size."""
+    found = [(label, value) for label, value in not_integers() if label != "triple"]
+    found.extend(("number", value) for value in (0, 1, HUGE))
+    for direction, r, k in itertools.product(DIRECTIONS, range(-2, size + 3), range(-2, size + 3)):
+        if (direction, r, k) not in RHOMBUSES[size]:
+            found.append(("outside", (direction, r, k)))
+    for direction, r, k in (("flat", 0, 0), ("left", 1, 1), ("right", 1, 0)):
+        found.extend((label, (value, r, k)) for label, value in not_integers() if label != "direction")
+        found.extend((label, (direction, value, k)) for label, value in not_integers())
+        found.extend((label, (direction, r, value)) for label, value in not_integers())
+        for other in ("", "up", "down", direction.upper(), direction.title(), direction + " ", direction[:-1]):
+            found.append(("direction " + other, (other, r, k)))
+        found.extend([
+            ("bytes", (direction.encode(), r, k)),
+            ("list", [direction, r, k]),
+            ("inner list", (direction, [r, k])),
+            ("pair", (direction, (r, k))),
+            ("longer", (direction, r, k, 0)),
+            ("shorter", (direction, r)),
+            ("turned", (r, k, direction)),
+            ("triple in a tuple", ((direction, r, k),)),
+        ])
+        for big in (HUGE, -HUGE, THOUSAND_DIGITS, -THOUSAND_DIGITS):
+            found.extend([("far", (direction, big, k)), ("far", (direction, r, big)), ("far", (direction, big, big))])
+    return found
+
+
+def partitions_from(size, low, high):
+    """Return all partitions of this size with entries from low to high, ascending."""
+    return sorted(each[::-1] for each in itertools.combinations_with_replacement(range(low, high + 1), size))
+
+
+def some_partition(numbers, size, spread):
+    """Return a partition of this spread at most."""
+    return tuple(sorted((numbers.between(0, spread) for _ in range(size)), reverse=True))
+
+
+def raised(partition, amount):
+    return tuple(item + amount for item in partition)
+
+
+def multiple(value, factor):
+    """Return a partition or an array with every entry multiplied by the factor."""
+    if isinstance(value, tuple):
+        return tuple(multiple(part, factor) for part in value)
+    return value * factor
+
+
+def plus(first, second):
+    """Return the sums of the entries of two partitions or arrays of one size."""
+    if isinstance(first, tuple):
+        return tuple(plus(one, two) for one, two in zip(first, second))
+    return first + second
+
+
+def tried_array(a, b, c, inner):
+    """Return the array with these borders and a dict of inner entries, for sums that agree."""
+    size = len(a)
+    entries = dict(inner)
+    for at in range(size + 1):
+        entries[at, 0] = sum(a[:at])
+        entries[at, at] = sum(c[:at])
+    for at in range(size + 1):
+        entries[size, at] = sum(a) + sum(b[:at])
+    return tuple(tuple(entries[r, k] for k in range(r + 1)) for r in range(size + 1))
+
+
+@functools.lru_cache(maxsize=None)
+def tried_solutions(a, b, c):
+    """Return all solutions, by [30]: every entry between the limits that [20] gives is tried."""
+    size = len(a)
+    if sum(c) != sum(a) + sum(b):
+        return []
+    inner = [(r, k) for r, k in vertices(size) if 0 < k < r < size]
+    ranges = [range(sum(a[:r]) + k * b[-1], sum(a[:r]) + k * b[0] + 1) for r, k in inner]
+    arrays = [tried_array(a, b, c, zip(inner, chosen)) for chosen in itertools.product(*ranges)]
+    return sorted(array for array in arrays if defined_concave(array))
+
+
+def thirds(a, b, beyond=1):
+    """Return partitions whose sum is the sum of a and b, also some that are too spread for a solution."""
+    found = partitions_from(len(a), a[-1] + b[-1] - beyond, a[0] + b[0] + beyond)
+    return [c for c in found if sum(c) == sum(a) + sum(b)]
+
+
+# Triples with several solutions, which are rare among triples that are taken without a choice.
+MANY = {
+    1: (),
+    2: (),
+    3: (((2, 1, 0), (2, 1, 0), (3, 2, 1)), ((6, 3, 0), (5, 2, 0), (8, 5, 3)), ((20, 10, 0), (20, 10, 0), (29, 21, 10))),
+    4: (
+        ((3, 2, 1, 0), (3, 2, 1, 0), (5, 4, 2, 1)),
+        ((3, 2, 1, 0), (3, 2, 1, 0), (4, 3, 3, 2)),
+        ((3, 1, 1, 0), (3, 2, 1, 0), (5, 3, 2, 1)),
+        ((2, 1, 0, 0), (3, 2, 0, 0), (4, 3, 1, 0)),
+        ((4, 2, 1, 0), (3, 2, 1, 0), (6, 4, 2, 1)),
+        ((4, 2, 1, -2), (3, -2, -3, -4), (5, 0, -1, -5)),
+    ),
+}
+
+
+@functools.lru_cache(maxsize=None)
+def agreeing_triples(size):
+    """Return triples of partitions of this size, 1 to 4, whose sums agree: with no, one and many solutions."""
+    numbers = Numbers(300 + size)
+    found = list(MANY[size])
+    for a, b in itertools.product(partitions_from(size, 0, (4, 3, 2, 1)[size - 1]), repeat=2):
+        found.extend((a, b, c) for c in thirds(a, b))
+    for _ in range((10, 40, 40, 12)[size - 1]):
+        spread = (20, 20, 12, 4)[size - 1]
+        a, b = some_partition(numbers, size, spread), some_partition(numbers, size, spread)
+        a, b = raised(a, numbers.between(-30, 30)), raised(b, numbers.between(-30, 30))
+        near = [c for c in thirds(a, b) if c[0] - c[-1] <= 20]
+        found.extend((a, b, near[numbers.below(len(near))]) for _ in range(5) if near)
+    for x, y in ((HUGE, -3 * HUGE), (-THOUSAND_DIGITS, HUGE), (THOUSAND_DIGITS, THOUSAND_DIGITS)):
+        for a, b, c in found[:3] + found[-1:]:
+            found.append((raised(a, x), raised(b, y), raised(c, x + y)))
+    return found
+
+
+def differing_triples(size):
+    """Return triples of partitions whose sums do not agree."""
+    found = []
+    for a, b, c in agreeing_triples(size)[::7]:
+        found.extend([(a, b, raised(c, 1)), (a, raised(b, -2), c), (a, raised(b, THOUSAND_DIGITS), c)])
+        if c[0] - c[-1] < 20:
+            found.append((a, b, c[:-1] + (c[-1] - 1,)))
+    return found
+
+
+def all_edges(size):
+    """Return the edges of the triangle, ascending, by [11]."""
+    inside = set(vertices(size))
+    starts = itertools.product(DIRECTIONS, range(size + 1), range(size + 1))
+    return sorted(edge for edge in starts if set(edge_ends(edge)) <= inside)
+
+
+def all_cells(size):
+    """Return the corners of every cell."""
+    return [tuple(sorted(corners)) for cells in (up_cells(size), down_cells(size)) for corners in cells.values()]
+
+
+def parts(rhombus):
+    """Return the corners of the two cells of the rhombus."""
+    ends, tips = RHOMBUSES[6][rhombus]
+    return [tuple(sorted(ends + (tip,))) for tip in tips]
+
+
+def shared(rhombus):
+    """Return the shared edge of the rhombus."""
+    ends = RHOMBUSES[6][rhombus][0]
+    return next(edge for edge in itertools.product(DIRECTIONS, *zip(*ends[:1])) if edge_ends(edge)[1] == ends[1])
+
+
+# The labels that [17] gives the edges of a rhombus that are not shared.
+RHOMBUS_LABELS = {
+    "flat": {"left": 1, "right": 0},
+    "left": {"right": 1, "flat": 0},
+    "right": {"flat": 1, "left": 0},
+}
+
+
+def defined_labels(size, chosen, label=None):
+    """Return a dict of the labels, by [17], or None if there are none; without a rhombus all have the given label."""
+    if not chosen:
+        return {edge: label for edge in all_edges(size)}
+    labels = {}
+    singles = [cell_edges(cell) for cell in all_cells(size) if not any(cell in parts(each) for each in chosen)]
+    for rhombus in chosen:
+        for cell in parts(rhombus):
+            for edge in set(cell_edges(cell)) - {shared(rhombus)}:
+                asked = RHOMBUS_LABELS[rhombus[0]][edge[0]]
+                if labels.setdefault(edge, asked) != asked:
+                    return None
+    grown = -1
+    while grown != len(labels):
+        grown = len(labels)
+        for cell in singles:
+            known = {labels[edge] for edge in cell if edge in labels}
+            if len(known) > 1:
+                return None
+            labels.update((edge, value) for edge in cell for value in known)
+    return labels
+
+
+@functools.lru_cache(maxsize=None)
+def separate_rhombuses(size):
+    """Return all ascending tuples of rhombuses of which no two share a cell."""
+    found = [()]
+    for rhombus in sorted(RHOMBUSES[size]):
+        cells = set(parts(rhombus))
+        found += [each + (rhombus,) for each in found if not any(cells & set(parts(other)) for other in each)]
+    return sorted(found)
+
+
+@functools.lru_cache(maxsize=None)
+def defined_tilings(size):
+    """Return a dict from every tiling to its labels, by [17], in the order that DOC.md asks of tilings(size)."""
+    found = {((), label): defined_labels(size, (), label) for label in (0, 1)}
+    for chosen in separate_rhombuses(size)[1:]:
+        labels = defined_labels(size, chosen)
+        if labels is not None:
+            found[chosen, None] = labels
+    return found
+
+
+def defined_sets(size, labels):
+    """Return the border sets of a tiling with these labels, by [18]."""
+    borders = (
+        [("left", at, 0) for at in range(size)],
+        [("flat", size, at) for at in range(size)],
+        [("right", at, at) for at in range(size)],
+    )
+    return tuple(tuple(at for at, edge in enumerate(edges, 1) if labels[edge] == 1) for edges in borders)
+
+
+def defined_gap(a, b, c, sets):
+    """Return the gap of a tiling with these border sets, by [40]."""
+    total = 0
+    for sign, partition, positions in zip((1, 1, -1), (a, b, c), sets):
+        total += sum(sign * partition[position - 1] for position in positions)
+    return total
+
+
+# Some tilings of size 6; the first two have the same border sets.
+TILINGS_OF_SIZE_6 = (
+    ((("flat", 0, 0), ("flat", 2, 0), ("flat", 4, 3), ("left", 3, 3), ("left", 4, 1), ("left", 5, 5),
+      ("right", 2, 1), ("right", 5, 0), ("right", 5, 2)), None),
+    ((("flat", 0, 0), ("flat", 2, 2), ("flat", 4, 1), ("left", 2, 1), ("left", 5, 3), ("left", 5, 5),
+      ("right", 3, 0), ("right", 4, 3), ("right", 5, 0)), None),
+    ((("flat", 2, 0), ("flat", 3, 1), ("flat", 4, 2), ("left", 5, 4), ("left", 5, 5)), None),
+    ((("flat", 3, 1), ("flat", 4, 1), ("left", 1, 1), ("left", 4, 3), ("left", 4, 4), ("left", 5, 4),
+      ("left", 5, 5), ("right", 2, 0), ("right", 5, 0)), None),
+    ((("left", 5, 3), ("left", 5, 4), ("left", 5, 5), ("right", 2, 0), ("right", 2, 1), ("right", 3, 0),
+      ("right", 3, 1), ("right", 4, 0), ("right", 4, 1)), None),
+    ((), 0),
+    ((), 1),
+)
+
+
+def known_tilings(size):
+    """Return tilings of this size that do not come from the program: all up to size 4, and some of size 6."""
+    return TILINGS_OF_SIZE_6 if size == 6 else tuple(defined_tilings(size))
+
+
+def is_known_rhombus(value, size):
+    # What is looked up in a dict is hashed, and a value that cannot be visited cannot be hashed.
+    if not isinstance(value, tuple) or [part.__class__ for part in value] != [str, int, int]:
+        return False
+    return value in RHOMBUSES[size]
+
+
+def wrong_item(size, items):
+    """Return the index that InvalidTiling names, or None."""
+    for index, item in enumerate(items):
+        before = items[:index]
+        if not is_known_rhombus(item, size) or any(item <= other for other in before):
+            return index
+        if any(set(parts(item)) & set(parts(other)) for other in before):
+            return index
+    return None
+
+
+def tiling_fault(size, value):
+    """Return a list with the field of InvalidTiling for this value; it is empty for a tiling."""
+    if not isinstance(value, tuple) or len(value) != 2 or not isinstance(value[0], tuple):
+        return [None]
+    items, label = value
+    index = wrong_item(size, items)
+    if index is not None:
+        return [index]
+    if defined_labels(size, items, 0) is None:
+        return ["labels"]
+    if items:
+        return [] if label is None else ["label"]
+    return [] if label.__class__ is int and label in (0, 1) else ["label"]
+
+
+def changed_tilings(size, tiling):
+    """Return the tiling with one change, in every way; a few of the results are tilings."""
+    items, label = tiling
+    found = []
+    for at in range(len(items)):
+        rest = items[:at] + items[at + 1:]
+        found.extend([rest, items[:at] + items[at:at + 1] * 2 + items[at + 1:], items + (items[at],)])
+        found.extend(rest[:to] + (items[at],) + rest[to:] for to in range(len(items)) if to != at)
+        direction, r, k = items[at]
+        moved = [(direction, r + 1, k), (direction, r - 1, k), (direction, r, k + 1), (direction, r, k - 1)]
+        for other in sorted(RHOMBUSES[size]) + moved + [(direction, size, size), (direction, True, k), list(items[at])]:
+            found.append(items[:at] + (other,) + items[at + 1:])
+    for other in sorted(RHOMBUSES[min(size + 1, 6)]):
+        found.extend([items + (other,), (other,) + items])
+        if other not in items:
+            found.append(tuple(sorted(items + (other,))))
+    found.append(items[::-1])
+    labels = [other for other in (None, 0, 1, 2, -1, HUGE, "0", "", (), (0,), [1], b"1") if other is not label]
+    labels.extend([True, False, doubled(0), doubled_list(1)])
+    changed = [(items, other) for other in labels]
+    return changed + [(each, each_label) for each in found if each != items for each_label in (label, 0, 2)]
+
+
+def wrong_tilings(size):
+    """Return pairs (value, field) for values that are not tilings, most of them of a wrong form."""
+    good = ((("flat", 0, 0),), None) if size > 1 else ((), 0)
+    values = [value for _, value in not_integers()] + [0, 1, HUGE, good + (None,), good[:1], list(good), good[::-1]]
+    values += [(value, None) for _, value in not_integers()] + [(value, 0) for _, value in not_integers()]
+    values += [((value,), None) for _, value in wrong_rhombuses(size)[::5]]
+    values += [(good[0] + (value,), None) for _, value in wrong_rhombuses(size)[::7]]
+    values += [(list(good[0]), good[1]), (good[0], [good[1]]), (good,), (good, good), ((good[0],), good[1])]
+    values += [(good[0], value) for _, value in not_integers()] + [((), value) for _, value in not_integers()]
+    values += [((), 2), ((), -1), ((), HUGE), ((), None), ((("left", size, 1),), None), (tuple(RHOMBUSES[size]), None)]
+    found = [(value, tiling_fault(size, value)) for value in values]
+    return [(value, fault[0]) for value, fault in found if fault]

@@ -23,60 +23,17 @@ from tests.helper import (
     SIZES,
     THOUSAND_DIGITS,
     Numbers,
-    Plain,
     TestCase,
     bowl,
     defined_borders,
     doubled,
     make,
-    nested,
     not_integers,
     samples,
     some_array,
     vertices,
+    wrong_arrays,
 )
-
-
-def replaced(array, row, value):
-    return array[:row] + (value,) + array[row + 1:]
-
-
-def wrong_arrays():
-    """Return triples (label, value, row) for values that are not arrays."""
-    found = [("number", 0, None), ("huge number", HUGE, None)]
-    found.extend((label, value, None) for label, value in not_integers() if not isinstance(value, tuple))
-    found.extend([
-        ("no rows", (), None),
-        ("one row", ((0,),), None),
-        ("size 7", make(7, lambda r, k: r + k), None),
-        ("eight wrong rows", (None,) * 8, None),
-        ("many rows", ((0,),) * 1000, None),
-        ("list", [(0,), (1, 2)], None),
-        ("list of lists", [[0], [1, 2]], None),
-        ("tuple of lists", ([0], [1, 2]), 0),
-        ("partition", (3, 2, 1), 0),
-        ("doubled", doubled(1), 0),
-        ("doubled empty tuple", doubled(()), 0),
-        ("tripled", doubled(0, width=3), 0),
-        ("nested", (nested(0), (1, 2)), 0),
-        ("upside down", ((1, 2), (0,)), 0),
-        ("two wrong rows", ((0,), (1,), (2,)), 1),
-        ("wrong row 0 first", ((1,), (1,), (2,)), 0),
-        ("wrong entry before wrong row", ((0,), (1, None), ()), 1),
-        ("wrong row before wrong entry", ((0,), (1, 2, 3), (None,) * 3), 1),
-    ])
-    for size in SIZES:
-        array = make(size, lambda r, k: 7 * r - k * k)
-        for wrong in ((1,), (-1,), (HUGE,), (-THOUSAND_DIGITS,), (True,), (False,), (), (0, 0), [0], 0, None):
-            found.append(("row 0", replaced(array, 0, wrong), 0))
-        for row in range(size + 1):
-            for wrong in (array[row][1:], array[row] + (0,), list(array[row]), set(array[row]), str(row), row, None,
-                          (array[row],), doubled(0), Plain()):
-                found.append(("row " + str(row), replaced(array, row, wrong), row))
-        for row, place in vertices(size):
-            for label, value in not_integers():
-                found.append((label, replaced(array, row, replaced(array[row], place, value)), row))
-    return found
 
 
 class CheckArray(TestCase):

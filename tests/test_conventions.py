@@ -5,9 +5,14 @@ import inspect
 import sys
 import weakref
 
-from threerims import arrays, partitions
+from threerims import arrays, concave, inequalities, matrices, partitions, tilings
 from threerims.errors import ThreerimsError
 from tests.helper import E, HUGE, Plain, TestCase, bowl, make
+
+ABC = {"a": (2, 1, 0), "b": (2, 1, 0), "c": (3, 2, 1)}
+APART = {"a": (2, 0), "b": (0, 0), "c": (1, 1)}
+TILING = ((("left", 1, 1),), None)
+TWO = ((2, 1), (0, 3))
 
 # The module, the function, and valid arguments by their names, in the order of the parameters.
 CALLS = (
@@ -33,7 +38,59 @@ CALLS = (
     (arrays, "reflect", {"array": E}),
     (arrays, "scale_array", {"array": E, "factor": 4}),
     (arrays, "add_arrays", {"first": E, "second": bowl(2)}),
+    (concave, "solutions", ABC),
+    (concave, "count_solutions", ABC),
+    (concave, "solution_by_rank", {**ABC, "rank": 1}),
+    (concave, "rank_of", {"array": E}),
+    (concave, "entry_range", {**ABC, "vertex": (2, 1)}),
+    (concave, "third_borders", {"a": (2, 1, 0), "b": (3, 1, 0)}),
+    (tilings, "check_tiling", {"size": 2, "value": TILING}),
+    (tilings, "is_tiling", {"size": 2, "value": TILING}),
+    (tilings, "edge_labels", {"size": 2, "tiling": TILING}),
+    (tilings, "border_sets", {"size": 2, "tiling": TILING}),
+    (tilings, "tilings", {"size": 3}),
+    (tilings, "tilings_with", {"size": 2, "i": (2,), "j": (1,), "k": (2,)}),
+    (inequalities, "gap", {**APART, "tiling": TILING}),
+    (inequalities, "slack_certificate", {"array": E, "tiling": TILING}),
+    (inequalities, "violated", APART),
+    (inequalities, "decide", APART),
+    (inequalities, "check_decision", {**APART, "answer": ("tiling", TILING)}),
+    (matrices, "is_matrix", {"value": TWO}),
+    (matrices, "is_prime", {"value": 7}),
+    (matrices, "check_matrix", {"value": TWO}),
+    (matrices, "check_prime", {"value": 7}),
+    (matrices, "identity", {"size": 3}),
+    (matrices, "product", {"left": TWO, "right": ((1, 0), (4, 1))}),
+    (matrices, "determinant", {"matrix": TWO}),
+    (matrices, "minor", {"matrix": TWO, "lines": (0, 1), "columns": (0, 1)}),
 )
+
+# The functions that return a list, with more valid arguments.
+LISTS = (
+    (concave.solutions, ((2, 1, 0), (2, 1, 0), (3, 2, 1))),
+    (concave.solutions, ((3, 2, 1, 0), (3, 2, 1, 0), (5, 4, 2, 1))),
+    (concave.solutions, ((1,), (1,), (3,))),
+    (tilings.tilings, (1,)),
+    (tilings.tilings, (4,)),
+    (tilings.tilings_with, (2, (2,), (1,), (2,))),
+    (tilings.tilings_with, (3, (), (), (1,))),
+    (inequalities.violated, ((2, 0), (0, 0), (1, 1))),
+    (inequalities.violated, ((2, 0), (0, 0), (2, 0))),
+)
+
+
+def fresh(value):
+    """Return a value that is equal and shares no tuple and no text with it."""
+    if isinstance(value, tuple):
+        return tuple([fresh(part) for part in value])
+    return "".join(list(value)) if isinstance(value, str) else value
+
+
+def inner_parts(value):
+    """Return the tuples and the texts of which a value consists, itself included."""
+    if isinstance(value, tuple):
+        return [value] * bool(value) + [each for part in value for each in inner_parts(part)]
+    return [value] if isinstance(value, str) else []
 
 
 def changeable_values():
@@ -150,6 +207,38 @@ class Arguments(TestCase):
             arrays.add_arrays(array, other)
         gc.collect()
         self.assertEqual([sys.getrefcount(each) for each in held], before)
+
+    def test_no_part_of_a_valid_argument_is_kept(self):
+        for module, name, named in CALLS:
+            arguments = [fresh(value) for value in named.values()]
+            held = [each for value in arguments for each in inner_parts(value)]
+            before = [sys.getrefcount(each) for each in held]
+            for _ in range(3):
+                getattr(module, name)(*arguments)
+            gc.collect(0)
+            self.assertEqual([sys.getrefcount(each) for each in held], before, name)
+            self.assert_same(tuple(arguments), tuple(named.values()))
+
+    def test_fields_of_exceptions_are_the_objects_that_were_passed(self):
+        for module, name, named in CALLS:
+            for parameter in named:
+                for value in (Plain(), [1], (Plain(),), "".join(["a", "b"])):
+                    try:
+                        getattr(module, name)(**dict(named, **{parameter: value}))
+                    except ThreerimsError as error:
+                        if hasattr(error, "value"):
+                            self.assertIs(error.value, value)
+
+    def test_returned_lists_may_be_changed(self):
+        changes = (list.clear, list.reverse, lambda found: found.append(1), lambda found: found.extend(found + [None]))
+        for function, arguments in LISTS:
+            expected = function(*arguments)
+            for change in changes:
+                found = function(*arguments)
+                self.assert_same(found, expected)
+                self.assertIsNot(found, expected)
+                change(found)
+                self.assert_same(function(*arguments), expected)
 
     def test_calls_do_not_depend_on_earlier_calls(self):
         for module, name, named in CALLS:

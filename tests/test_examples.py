@@ -1,6 +1,6 @@
 """The examples of DOC.md, word for word."""
 
-from threerims import arrays, errors, partitions
+from threerims import arrays, concave, errors, inequalities, matrices, partitions, tilings
 from tests.helper import E, TestCase
 
 # What is called, and what it returns.
@@ -28,19 +28,48 @@ RETURNS = (
     ("add_arrays(E, E)", "((0,), (2, 4), (2, 4, 4))"),
     ("E", "((0,), (1, 2), (1, 2, 2))"),
     ("MAX_SIZE", "6"),
+    ("MAX_ENUMERATED_SIZE", "4"),
+    ("MAX_SPREAD", "20"),
+    ("solutions((1, 0), (1, 0), (2, 0))", "[E]"),
+    ("count_solutions((2, 1, 0), (2, 1, 0), (3, 2, 1))", "2"),
+    ("solution_by_rank((2, 1, 0), (2, 1, 0), (3, 2, 1), 0)", "((0,), (2, 3), (3, 4, 5), (3, 5, 6, 6))"),
+    ("rank_of(((0,), (2, 3), (3, 5, 5), (3, 5, 6, 6)))", "1"),
+    ("entry_range((2, 1, 0), (2, 1, 0), (3, 2, 1), (2, 1))", "(4, 5)"),
+    ("third_borders((1, 0), (1, 0))", "((1, 1), (2, 0))"),
+    ("MAX_TILING_SIZE", "5"),
+    ("is_tiling(1, ((), 1))", "True"),
+    ("edge_labels(1, ((), 1))", '((("flat", 1, 0), 1), (("left", 0, 0), 1), (("right", 0, 0), 1))'),
+    ('border_sets(2, ((("left", 1, 1),), None))', "((2,), (1,), (2,))"),
+    ("tilings(1)", "[((), 0), ((), 1)]"),
+    ("tilings_with(2, (1,), (2,), (2,))", '[((("flat", 0, 0),), None)]'),
+    ('gap((2, 0), (0, 0), (1, 1), ((("left", 1, 1),), None))', "-1"),
+    ('slack_certificate(E, ((("flat", 0, 0),), None))', '((("flat", 0, 0), 1),)'),
+    ("violated((2, 0), (0, 0), (1, 1))", '[((("left", 1, 1),), None)]'),
+    ("decide((2, 0), (0, 0), (1, 1))", '("tiling", ((("left", 1, 1),), None))'),
+    ('check_decision((2, 0), (0, 0), (1, 1), ("tiling", ((("left", 1, 1),), None)))', '"tiling"'),
+    ("MAX_ENTRY", "10 ** 60"),
+    ("MAX_PRIME", "97"),
+    ("is_prime(91)", "False"),
+    ("identity(2)", "((1, 0), (0, 1))"),
+    ("product(((2, 1), (0, 3)), ((1, 0), (4, 1)))", "((6, 1), (12, 3))"),
+    ("determinant(((2, 1), (0, 3)))", "6"),
+    ("minor(((2, 1), (0, 3)), (0,), (1,))", "1"),
 )
 
 # What is called, the exception that it raises, and the field of that exception.
 RAISES = (
     ("check_partition((2, 3))", "InvalidPartition(1)", "position"),
     ("check_array(((0,), (1,)))", "InvalidArray(1)", "row"),
+    ('check_tiling(2, ((("flat", 0, 0), ("left", 1, 1)), None))', "InvalidTiling(1)", "index"),
+    ("check_prime(1)", "InvalidPrime(1)", "value"),
 )
 
 
 class Examples(TestCase):
 
     def known_names(self):
-        return {**vars(errors), **vars(partitions), **vars(arrays), "E": E}
+        modules = (errors, partitions, arrays, concave, tilings, inequalities, matrices)
+        return {name: value for module in modules for name, value in vars(module).items()} | {"E": E}
 
     def test_returned_values(self):
         for call, expected in RETURNS:

@@ -13,7 +13,7 @@ from threerims.partitions import (
     scale_partition,
     shift,
 )
-from tests.helper import HUGE, SIZES, THOUSAND_DIGITS, Plain, TestCase, doubled, nested, not_integers
+from tests.helper import HUGE, SIZES, THOUSAND_DIGITS, Plain, TestCase, doubled, not_integers, wrong_partitions
 
 SAMPLES = (
     (0,),
@@ -31,42 +31,6 @@ SAMPLES = (
     (HUGE, HUGE - 1, -HUGE),
     (THOUSAND_DIGITS, 0, -THOUSAND_DIGITS),
 )
-
-
-def wrong_partitions():
-    """Return triples (label, value, position) for values that are not partitions."""
-    found = [("number", 0, None), ("huge number", HUGE, None)]
-    found.extend((label, value, None) for label, value in not_integers() if not isinstance(value, tuple))
-    found.extend([
-        ("empty", (), None),
-        ("seven", (7, 6, 5, 4, 3, 2, 1), None),
-        ("seven equal", (0,) * 7, None),
-        ("seven wrong", (True,) * 7, None),
-        ("sevenfold", doubled(0, width=7), None),
-        ("many", (0,) * 1000, None),
-        ("list", [2, 1], None),
-        ("doubled", doubled(1), 0),
-        ("tripled", doubled(1, width=3), 0),
-        ("nested", nested(1), 0),
-        ("ascending", (2, 3), 1),
-        ("ascending below 0", (-2, -1), 1),
-        ("huge ascending", (HUGE, HUGE + 1), 1),
-        ("longest ascending", (-THOUSAND_DIGITS, THOUSAND_DIGITS), 1),
-        ("first of two", (1, 2, 3), 1),
-        ("down and up", (3, 1, 2), 2),
-        ("up and down", (1, 3, 2), 1),
-        ("last", (5, 4, 3, 2, 1, 2), 5),
-        ("wrong item before ascending items", (True, 1, 5), 0),
-        ("ascending items before wrong item", (1, 5, True), 1),
-        ("equal to the item before", (1, True), 1),
-        ("equal to 0", (0, False), 1),
-    ])
-    for size in SIZES:
-        for position in range(size):
-            steps = tuple(range(size, 0, -1))
-            for label, value in not_integers():
-                found.append((label, steps[:position] + (value,) + steps[position + 1:], position))
-    return found
 
 
 class Integers(TestCase):

@@ -24,37 +24,8 @@ from tests.helper import (
     samples,
     some_array,
     vertices,
+    wrong_rhombuses,
 )
-
-DIRECTIONS = ("flat", "left", "right")
-
-
-def wrong_rhombuses(size):
-    """Return pairs (label, value) for values that are not rhombuses of a triangle of this size."""
-    found = [(label, value) for label, value in not_integers() if label != "triple"]
-    found.extend(("number", value) for value in (0, 1, HUGE))
-    for direction, r, k in itertools.product(DIRECTIONS, range(-2, size + 3), range(-2, size + 3)):
-        if (direction, r, k) not in RHOMBUSES[size]:
-            found.append(("outside", (direction, r, k)))
-    for direction, r, k in (("flat", 0, 0), ("left", 1, 1), ("right", 1, 0)):
-        found.extend((label, (value, r, k)) for label, value in not_integers() if label != "direction")
-        found.extend((label, (direction, value, k)) for label, value in not_integers())
-        found.extend((label, (direction, r, value)) for label, value in not_integers())
-        for other in ("", "up", "down", direction.upper(), direction.title(), direction + " ", direction[:-1]):
-            found.append(("direction " + other, (other, r, k)))
-        found.extend([
-            ("bytes", (direction.encode(), r, k)),
-            ("list", [direction, r, k]),
-            ("inner list", (direction, [r, k])),
-            ("pair", (direction, (r, k))),
-            ("longer", (direction, r, k, 0)),
-            ("shorter", (direction, r)),
-            ("turned", (r, k, direction)),
-            ("triple in a tuple", ((direction, r, k),)),
-        ])
-        for big in (HUGE, -HUGE, THOUSAND_DIGITS, -THOUSAND_DIGITS):
-            found.extend([("far", (direction, big, k)), ("far", (direction, r, big)), ("far", (direction, big, big))])
-    return found
 
 
 class Rhombuses(TestCase):

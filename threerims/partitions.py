@@ -30,6 +30,15 @@ def is_partition(value):
     return True
 
 
+def check_equal_sizes(values):
+    """Check every value as a partition, and raise SizeMismatch if their sizes are not all equal."""
+    for value in values:
+        check_partition(value)
+    sizes = tuple([len(value) for value in values])
+    if min(sizes) != max(sizes):
+        raise SizeMismatch(sizes)
+
+
 def check_factor(value):
     """Return None if the value is an integer that is at least 0, and raise InvalidFactor otherwise."""
     if not is_integer(value) or value < 0:
@@ -59,8 +68,5 @@ def scale_partition(partition, factor):
 
 def add_partitions(first, second):
     """Return the sums of the entries at equal positions."""
-    check_partition(first)
-    check_partition(second)
-    if len(first) != len(second):
-        raise SizeMismatch((len(first), len(second)))
+    check_equal_sizes((first, second))
     return tuple([left + right for left, right in zip(first, second)])
