@@ -7,6 +7,7 @@ so that they do not repeat the program's own way.
 import faulthandler
 import functools
 import itertools
+import math
 import sys
 import unittest
 
@@ -681,3 +682,286 @@ def wrong_tilings(size):
     values += [((), 2), ((), -1), ((), HUGE), ((), None), ((("left", size, 1),), None), (tuple(RHOMBUSES[size]), None)]
     found = [(value, tiling_fault(size, value)) for value in values]
     return [(value, fault[0]) for value, fault in found if fault]
+
+
+LIMIT = 10 ** 60
+PRIMES = (2, 3, 5, 7, 11, 13, 17, 19, 23, 29, 31, 37, 41, 43, 47, 53, 59, 61, 67, 71, 73, 79, 83, 89, 97)
+BOUNDS = (1, 2, 9, 1000, LIMIT)
+
+
+def greatest(matrix):
+    return max(abs(item) for line in matrix for item in line)
+
+
+def some_matrix(numbers, size, bound):
+    return tuple(tuple(numbers.between(-bound, bound) for _ in range(size)) for _ in range(size))
+
+
+def sparse_matrix(numbers, size):
+    """Return a matrix in which most entries are 0, so that pivots are missing."""
+    return tuple(tuple(max(0, numbers.below(7) - 4) * (1 - 2 * numbers.below(2)) for _ in range(size))
+                 for _ in range(size))
+
+
+def sample_matrices(size):
+    numbers = Numbers(600 + size)
+    found = [some_matrix(numbers, size, bound) for bound in BOUNDS for _ in range(3)]
+    found += [sparse_matrix(numbers, size) for _ in range(25)]
+    found += [((0,) * size,) * size, ((1,) * size,) * size, ((LIMIT,) * size,) * size, ((-LIMIT,) * size,) * size]
+    # Two equal lines, a line that is the sum of two, and lines in the reverse order.
+    found += [replaced(each, 0, each[-1]) for each in found[:4]]
+    if size > 2:
+        found += [replaced(each, 1, tuple(x + y for x, y in zip(each[0], each[2]))) for each in found[:9]]
+    found.append(tuple(tuple(int(line + column == size - 1) for column in range(size)) for line in range(size)))
+    found.append(tuple(tuple(LIMIT * int(line == column) for column in range(size)) for line in range(size)))
+    return [matrix for matrix in found if greatest(matrix) <= LIMIT]
+
+
+def sign_of(order):
+    exchanges = sum(one > two for one, two in itertools.combinations(order, 2))
+    return -1 if exchanges % 2 else 1
+
+
+def permuted_determinant(square):
+    """Return the determinant as a sum over all permutations."""
+    size = len(square)
+    orders = itertools.permutations(range(size))
+    return sum(sign_of(order) * math.prod(square[line][order[line]] for line in range(size)) for order in orders)
+
+
+def permuted_minor(matrix, lines, columns):
+    return permuted_determinant([[matrix[line][column] for column in columns] for line in lines])
+
+
+def defined_product(left, right):
+    columns = list(zip(*right))
+    return tuple(tuple(sum(map(lambda x, y: x * y, line, column)) for column in columns) for line in left)
+
+
+def choices(size):
+    """Return all nonempty ascending tuples of indices."""
+    return [each for many in range(1, size + 1) for each in itertools.combinations(range(size), many)]
+
+
+def wrong_matrices():
+    """Return values that are not matrices."""
+    found = [value for _, value in not_integers()] + [0, 1, HUGE]
+    found += [((),), ((), ()), (1, 2), ((1,), (2,)), ((1, 2),), ((1, 2), (3,)), ((1,), (2, 3)), ((1, 2, 3), (4, 5, 6))]
+    found += [((1, 2), (3, 4), (5, 6)), [(1, 2), (3, 4)], ([1, 2], [3, 4]), ((1, 2), [3, 4]), [[1]], ([1],), (((1,),),)]
+    found += [((1,) * 7,) * 7, ((0,),) * 7, ((),) * 7, nested(1, 3), doubled(0), (doubled(0), doubled(0)), "ab"]
+    for size in SIZES:
+        good = tuple(tuple(range(line, line + size)) for line in range(size))
+        for at in range(size):
+            line = good[at]
+            for wrong in (line[1:], line + (0,), list(line), set(line), at, None, "12", doubled(0), Plain()):
+                found.append(replaced(good, at, wrong))
+            for wrong in (LIMIT + 1, -LIMIT - 1, THOUSAND_DIGITS, -THOUSAND_DIGITS):
+                found.append(replaced(good, at, replaced(good[at], size - 1 - at, wrong)))
+            for _, wrong in not_integers():
+                found.append(replaced(good, at, replaced(good[at], at, wrong)))
+    return found
+
+
+def wrong_primes():
+    """Return values that are not primes from 2 to 97."""
+    return [value for _, value in not_integers()] + [0, 1, -2, -3, 4, 9, 91, 95, 96, 98, 101, HUGE, -HUGE, THOUSAND_DIGITS]
+
+
+def wrong_nonnegatives():
+    """Return triples (label, value, position) for values that are not nonnegative partitions."""
+    return wrong_partitions() + [
+        ("negative", (-1,), 0),
+        ("very negative", (-THOUSAND_DIGITS,), 0),
+        ("last negative", (3, -1), 1),
+        ("two negative", (0, -1, -2), 1),
+        ("all negative", (-1, -1, -1, -1, -1, -1), 0),
+        ("sixth negative", (HUGE, 4, 3, 2, 0, -HUGE), 5),
+        ("negative before an ascending entry", (-1, 3), 1),
+        ("negative before a wrong item", (0, -1, None), 2),
+        ("negative before too many items", (0, 0, 0, 0, 0, 0, -1), None),
+    ]
+
+
+def order_by_powers(value, prime):
+    """Return the greatest e such that prime ** e divides the value, which is not 0."""
+    found = 0
+    while value % prime ** (found + 1) == 0:
+        found += 1
+    return found
+
+
+def all_minors(lines):
+    """Return a dict from pairs (lines, columns) to minors, each a sum over the entries of its first line."""
+    found = {((), ()): 1}
+    for many in range(1, len(lines) + 1):
+        for rows in itertools.combinations(range(len(lines)), many):
+            for columns in itertools.combinations(range(len(lines[0])), many):
+                found[rows, columns] = sum(
+                    (-1) ** at * lines[rows[0]][column] * found[rows[1:], columns[:at] + columns[at + 1:]]
+                    for at, column in enumerate(columns)
+                )
+    return found
+
+
+def defined_orders(lines, prime):
+    """Return d(1), ..., d(n), by [52]."""
+    minors = all_minors(lines)
+    return tuple(
+        min(order_by_powers(value, prime) for (rows, _), value in minors.items() if len(rows) == many and value)
+        for many in range(1, len(lines) + 1)
+    )
+
+
+def defined_exponents(lines, prime):
+    """Return the exponents, by [52]."""
+    orders = (0,) + defined_orders(lines, prime)
+    return tuple(sorted((after - before for before, after in zip(orders, orders[1:])), reverse=True))
+
+
+def unit_matrix(numbers, size, bound=2):
+    """Return a matrix whose determinant is 1 or -1."""
+    lines = [[int(line == column) for column in range(size)] for line in range(size)]
+    for _ in range(2 * size if size > 1 else 0):
+        one, two = numbers.below(size), numbers.below(size - 1)
+        two += two >= one
+        factor = numbers.between(-bound, bound)
+        lines[one] = [x + factor * y for x, y in zip(lines[one], lines[two])]
+    return tuple(tuple(line) for line in lines)
+
+
+def matrix_of_exponents(numbers, partition, prime):
+    """Return a matrix with these exponents."""
+    size = len(partition)
+    powers = tuple(tuple(prime ** partition[line] * (line == column) for column in range(size)) for line in range(size))
+    return defined_product(defined_product(unit_matrix(numbers, size), powers), unit_matrix(numbers, size))
+
+
+@functools.lru_cache(maxsize=None)
+def regular_matrices(size):
+    """Return matrices whose determinant is not 0, many of them with exponents other than 0 for 2, 3, 5 or 97."""
+    numbers = Numbers(700 + size)
+    found = [matrix for matrix in sample_matrices(size) if permuted_determinant(matrix)]
+    for prime in (2, 3, 5, 97):
+        for spread in (1, 3, 5):
+            found.append(matrix_of_exponents(numbers, some_partition(numbers, size, spread), prime))
+    for _ in range(6):
+        lines = some_matrix(numbers, size, 6)
+        found.append(tuple(tuple(item * 2 ** numbers.below(4) * 3 ** numbers.below(3) for item in line) for line in lines))
+    # Ones beside a diagonal of powers: all exponents but the first are 0.
+    found.append(tuple(tuple(2 ** 20 * (line == column) + (column == line + 1) for column in range(size))
+                       for line in range(size)))
+    return [matrix for matrix in found if permuted_determinant(matrix) and greatest(matrix) <= LIMIT]
+
+
+def singular_matrices(size):
+    """Return matrices whose determinant is 0."""
+    return [matrix for matrix in sample_matrices(size) if not permuted_determinant(matrix)]
+
+
+def entries_of(tableau, i, j):
+    """Return k(i, j) of [54]."""
+    return tableau[j - 1][i - 1]
+
+
+def defined_steep(base, tableau):
+    """Read the first sentence of [56]."""
+    size = len(tableau)
+    for j in range(1, size):
+        for i in range(1, j + 2):
+            left = base[j] + sum(entries_of(tableau, g, j + 1) for g in range(1, i + 1))
+            if left > base[j - 1] + sum(entries_of(tableau, g, j) for g in range(1, i)):
+                return False
+    return True
+
+
+def defined_fair(tableau):
+    """Read the second sentence of [56]."""
+    size = len(tableau)
+    for j in range(1, size):
+        for i in range(1, j + 1):
+            left = sum(entries_of(tableau, i + 1, h) for h in range(i + 1, j + 2))
+            if left > sum(entries_of(tableau, i, h) for h in range(i, j + 1)):
+                return False
+    return True
+
+
+def defined_fits(base, tableau):
+    return defined_steep(base, tableau) and defined_fair(tableau)
+
+
+def defined_content(tableau):
+    size = len(tableau)
+    return tuple(sum(entries_of(tableau, i, j) for j in range(i, size + 1)) for i in range(1, size + 1))
+
+
+def defined_shape(base, tableau):
+    return tuple(base[j - 1] + sum(tableau[j - 1]) for j in range(1, len(tableau) + 1))
+
+
+def defined_array(base, tableau):
+    """Return the array of [62]."""
+    size = len(tableau)
+    return tuple(
+        tuple(
+            sum(base[:j]) + sum(entries_of(tableau, g, h) for h in range(1, j + 1) for g in range(1, min(i, h) + 1))
+            for i in range(j + 1)
+        )
+        for j in range(size + 1)
+    )
+
+
+def weak_compositions(total, length):
+    """Return all tuples of this many integers from 0 on with this sum."""
+    if length == 0:
+        return [()] if total == 0 else []
+    return [(first,) + rest for first in range(total + 1) for rest in weak_compositions(total - first, length - 1)]
+
+
+def tableaux_with(base, content, shape):
+    """Return all tableaux of this content and outer shape that fit the base."""
+    sums = [after - before for before, after in zip(base, shape)]
+    if min(sums) < 0:
+        return []
+    levels = [weak_compositions(total, at) for at, total in enumerate(sums, 1)]
+    return [each for each in itertools.product(*levels)
+            if defined_content(each) == content and defined_fits(base, each)]
+
+
+def all_tableaux(size, high):
+    """Return all tableaux of this size with numbers from 0 to high."""
+    levels = [list(itertools.product(range(high + 1), repeat=at)) for at in range(1, size + 1)]
+    return list(itertools.product(*levels))
+
+
+def empty_tableau(size):
+    return tuple((0,) * at for at in range(1, size + 1))
+
+
+def wrong_tableaux():
+    """Return values that are not tableaux."""
+    found = [value for label, value in not_integers() if label != "empty tuple"] + [0, 1, HUGE, "ab"]
+    found += [((),), (1, (0, 1)), ((1,), (0,)), ((1,), (0, 1, 2)), ((0, 1), (1,)), ((1, 0),), ((), (0,)), ((1,), ())]
+    found += [[(1,), (0, 1)], ([1], [0, 1]), ((1,), [0, 1]), ([1], (0, 1)), [[1]], nested(1, 3), ((1,), doubled(0))]
+    found += [empty_tableau(61), empty_tableau(62), empty_tableau(60) + ((),), ((0,),) * 1000, (doubled(0),)]
+    for size in (1, 2, 3, 6, 60):
+        good = empty_tableau(size)
+        for at in sorted({0, size // 2, size - 1}):
+            level = good[at]
+            for wrong in (level[1:], level + (0,), list(level), set(level), at, None, "0" * (at + 1), doubled(0)):
+                found.append(replaced(good, at, wrong))
+            for wrong in (-1, -HUGE, -THOUSAND_DIGITS):
+                found.append(replaced(good, at, replaced(level, at, wrong)))
+                found.append(replaced(good, at, replaced(level, 0, wrong)))
+            for _, wrong in not_integers():
+                found.append(replaced(good, at, replaced(level, at // 2, wrong)))
+    return found
+
+
+def wrong_bases():
+    """Return pairs (value, position) for values that are not bases."""
+    found = [(value, position) for label, value, position in wrong_partitions()
+             if not isinstance(value, tuple) or 1 <= len(value) <= 6]
+    found += [((0,) * 61, None), ((None,) * 61, None), ((0,) * 1000, None), ([], None), ([0], None), (None, None)]
+    found += [((0,) * 59 + (1,), 59), ((0,) * 59 + (True,), 59), (tuple(range(60)), 1), ((0,) * 59 + (doubled(0),), 59)]
+    found += [((7, 6, 5, 4, 3, 2, 1, 2), 7), ((7, 6, 5, 4, 3, 2, 1, None, 9), 7), ((-1, -1, 0), 2)]
+    return found

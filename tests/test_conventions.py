@@ -5,7 +5,18 @@ import inspect
 import sys
 import weakref
 
-from threerims import arrays, concave, inequalities, matrices, partitions, tilings
+from threerims import (
+    arrays,
+    chains,
+    concave,
+    exponents,
+    factors,
+    inequalities,
+    matrices,
+    partitions,
+    tableaux,
+    tilings,
+)
 from threerims.errors import ThreerimsError
 from tests.helper import E, HUGE, Plain, TestCase, bowl, make
 
@@ -13,6 +24,8 @@ ABC = {"a": (2, 1, 0), "b": (2, 1, 0), "c": (3, 2, 1)}
 APART = {"a": (2, 0), "b": (0, 0), "c": (1, 1)}
 TILING = ((("left", 1, 1),), None)
 TWO = ((2, 1), (0, 3))
+TABLEAU = ((1,), (0, 1))
+PLAIN = ((1, 0), (0, 1))
 
 # The module, the function, and valid arguments by their names, in the order of the parameters.
 CALLS = (
@@ -63,6 +76,31 @@ CALLS = (
     (matrices, "product", {"left": TWO, "right": ((1, 0), (4, 1))}),
     (matrices, "determinant", {"matrix": TWO}),
     (matrices, "minor", {"matrix": TWO, "lines": (0, 1), "columns": (0, 1)}),
+    (exponents, "order", {"value": 12, "prime": 2}),
+    (exponents, "least_orders", {"matrix": TWO, "prime": 3}),
+    (exponents, "exponents", {"matrix": TWO, "prime": 3}),
+    (exponents, "certificate", {"matrix": TWO, "prime": 3}),
+    (exponents, "check_certificate", {"matrix": ((2, 0), (0, 1)), "prime": 2, "certificate": (PLAIN, PLAIN)}),
+    (tableaux, "is_tableau", {"value": TABLEAU}),
+    (tableaux, "content", {"tableau": TABLEAU}),
+    (tableaux, "outer_shape", {"base": (1, 0), "tableau": TABLEAU}),
+    (tableaux, "is_steep", {"base": (1, 0), "tableau": TABLEAU}),
+    (tableaux, "is_fair", {"tableau": TABLEAU}),
+    (tableaux, "fits", {"base": (1, 0), "tableau": TABLEAU}),
+    (tableaux, "array_of", {"base": (1, 0), "tableau": TABLEAU}),
+    (tableaux, "tableau_of", {"array": E}),
+    (factors, "lead", {"base": (1, 0), "prime": 3}),
+    (factors, "factors", {"base": (1, 0), "tableau": TABLEAU, "prime": 3}),
+    (factors, "tail", {"base": (1, 0), "tableau": TABLEAU, "prime": 3}),
+    (factors, "realize", {**APART, "prime": 3}),
+    (factors, "realize", {**ABC, "prime": 3}),
+    (factors, "check_realization", {**APART, "prime": 3, "answer": ("tiling", TILING)}),
+    (factors, "check_realization", {"a": (1, 0), "b": (1, 1), "c": (2, 1), "prime": 3, "answer": ("matrices", TABLEAU)}),
+    (chains, "conjugate", {"partition": (3, 1)}),
+    (chains, "chain", {"left": TWO, "right": ((9, 3), (0, 3)), "prime": 3}),
+    (chains, "is_chain", {"value": ((1, 0), (2, 1))}),
+    (chains, "raises_of", {"chain": ((1, 0), (2, 1))}),
+    (chains, "chain_of", {"base": (1, 0), "tableau": ((1,), (1, 0))}),
 )
 
 # The functions that return a list, with more valid arguments.

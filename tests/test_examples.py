@@ -1,6 +1,18 @@
 """The examples of DOC.md, word for word."""
 
-from threerims import arrays, concave, errors, inequalities, matrices, partitions, tilings
+from threerims import (
+    arrays,
+    chains,
+    concave,
+    errors,
+    exponents,
+    factors,
+    inequalities,
+    matrices,
+    partitions,
+    tableaux,
+    tilings,
+)
 from tests.helper import E, TestCase
 
 # What is called, and what it returns.
@@ -54,6 +66,26 @@ RETURNS = (
     ("product(((2, 1), (0, 3)), ((1, 0), (4, 1)))", "((6, 1), (12, 3))"),
     ("determinant(((2, 1), (0, 3)))", "6"),
     ("minor(((2, 1), (0, 3)), (0,), (1,))", "1"),
+    ("order(12, 2)", "2"),
+    ("least_orders(((2, 1), (0, 2)), 2)", "(0, 2)"),
+    ("exponents(((2, 1), (0, 2)), 2)", "(2, 0)"),
+    ("check_certificate(((2, 0), (0, 1)), 2, (((1, 0), (0, 1)), ((1, 0), (0, 1))))", "(1, 0)"),
+    ("MAX_LEVELS", "60"),
+    ("is_tableau(((1,), (0, 1)))", "True"),
+    ("content(((1,), (0, 1)))", "(1, 1)"),
+    ("outer_shape((1, 0), ((1,), (0, 1)))", "(2, 1)"),
+    ("fits((1, 0), ((1,), (0, 1)))", "True"),
+    ("array_of((1, 0), ((1,), (0, 1)))", "((0,), (1, 2), (1, 2, 3))"),
+    ("tableau_of(((0,), (1, 2), (1, 2, 3)))", "((1,), (0, 1))"),
+    ("lead((1, 0), 2)", "((2, 0), (0, 1))"),
+    ("factors((1, 0), ((1,), (0, 1)), 2)", "(((2, 1), (0, 1)), ((1, 0), (0, 2)))"),
+    ("tail((1, 0), ((1,), (0, 1)), 2)", "((2, 2), (0, 2))"),
+    ('check_realization((1, 0), (1, 1), (2, 1), 2, ("matrices", ((1,), (0, 1))))', '"matrices"'),
+    ("conjugate((3, 1))", "(2, 1, 1)"),
+    ("chain(((2, 0), (0, 1)), ((2, 0), (0, 2)), 2)", "((1, 0), (2, 1))"),
+    ("is_chain(((1, 0), (2, 0), (2, 1)))", "False"),
+    ("raises_of(((1, 0), (2, 1)))", "((1,), (1, 0))"),
+    ("chain_of((1, 0), ((1,), (1, 0)))", "((1, 0), (2, 1))"),
 )
 
 # What is called, the exception that it raises, and the field of that exception.
@@ -68,7 +100,8 @@ RAISES = (
 class Examples(TestCase):
 
     def known_names(self):
-        modules = (errors, partitions, arrays, concave, tilings, inequalities, matrices)
+        modules = (errors, partitions, arrays, concave, tilings, inequalities, matrices, exponents, tableaux, factors,
+                   chains)
         return {name: value for module in modules for name, value in vars(module).items()} | {"E": E}
 
     def test_returned_values(self):

@@ -1,7 +1,6 @@
 """threerims.matrices: products, determinants, minors and primes, edges and wrong values."""
 
 import itertools
-import math
 import time
 
 from threerims import matrices
@@ -18,94 +17,25 @@ from threerims.matrices import (
 )
 from tests.helper import (
     HUGE,
+    LIMIT,
+    PRIMES,
     SIZES,
     THOUSAND_DIGITS,
     Numbers,
-    Plain,
     TestCase,
+    choices,
+    defined_product,
     doubled,
-    nested,
+    greatest,
     not_integers,
+    permuted_determinant,
+    permuted_minor,
     replaced,
+    sample_matrices,
+    sign_of,
+    some_matrix,
+    wrong_matrices,
 )
-
-LIMIT = 10 ** 60
-PRIMES = (2, 3, 5, 7, 11, 13, 17, 19, 23, 29, 31, 37, 41, 43, 47, 53, 59, 61, 67, 71, 73, 79, 83, 89, 97)
-BOUNDS = (1, 2, 9, 1000, LIMIT)
-
-
-def greatest(matrix):
-    return max(abs(item) for line in matrix for item in line)
-
-
-def some_matrix(numbers, size, bound):
-    return tuple(tuple(numbers.between(-bound, bound) for _ in range(size)) for _ in range(size))
-
-
-def sparse_matrix(numbers, size):
-    """Return a matrix in which most entries are 0, so that pivots are missing."""
-    return tuple(tuple(max(0, numbers.below(7) - 4) * (1 - 2 * numbers.below(2)) for _ in range(size))
-                 for _ in range(size))
-
-
-def sample_matrices(size):
-    numbers = Numbers(600 + size)
-    found = [some_matrix(numbers, size, bound) for bound in BOUNDS for _ in range(3)]
-    found += [sparse_matrix(numbers, size) for _ in range(25)]
-    found += [((0,) * size,) * size, ((1,) * size,) * size, ((LIMIT,) * size,) * size, ((-LIMIT,) * size,) * size]
-    # Two equal lines, a line that is the sum of two, and lines in the reverse order.
-    found += [replaced(each, 0, each[-1]) for each in found[:4]]
-    if size > 2:
-        found += [replaced(each, 1, tuple(x + y for x, y in zip(each[0], each[2]))) for each in found[:9]]
-    found.append(tuple(tuple(int(line + column == size - 1) for column in range(size)) for line in range(size)))
-    found.append(tuple(tuple(LIMIT * int(line == column) for column in range(size)) for line in range(size)))
-    return [matrix for matrix in found if greatest(matrix) <= LIMIT]
-
-
-def sign_of(order):
-    exchanges = sum(one > two for one, two in itertools.combinations(order, 2))
-    return -1 if exchanges % 2 else 1
-
-
-def permuted_determinant(square):
-    """Return the determinant as a sum over all permutations."""
-    size = len(square)
-    orders = itertools.permutations(range(size))
-    return sum(sign_of(order) * math.prod(square[line][order[line]] for line in range(size)) for order in orders)
-
-
-def permuted_minor(matrix, lines, columns):
-    return permuted_determinant([[matrix[line][column] for column in columns] for line in lines])
-
-
-def defined_product(left, right):
-    columns = list(zip(*right))
-    return tuple(tuple(sum(map(lambda x, y: x * y, line, column)) for column in columns) for line in left)
-
-
-def choices(size):
-    """Return all nonempty ascending tuples of indices."""
-    return [each for many in range(1, size + 1) for each in itertools.combinations(range(size), many)]
-
-
-def wrong_matrices():
-    """Return values that are not matrices."""
-    found = [value for _, value in not_integers()] + [0, 1, HUGE]
-    found += [((),), ((), ()), (1, 2), ((1,), (2,)), ((1, 2),), ((1, 2), (3,)), ((1,), (2, 3)), ((1, 2, 3), (4, 5, 6))]
-    found += [((1, 2), (3, 4), (5, 6)), [(1, 2), (3, 4)], ([1, 2], [3, 4]), ((1, 2), [3, 4]), [[1]], ([1],), (((1,),),)]
-    found += [((1,) * 7,) * 7, ((0,),) * 7, ((),) * 7, nested(1, 3), doubled(0), (doubled(0), doubled(0)), "ab"]
-    for size in SIZES:
-        good = tuple(tuple(range(line, line + size)) for line in range(size))
-        for at in range(size):
-            line = good[at]
-            for wrong in (line[1:], line + (0,), list(line), set(line), at, None, "12", doubled(0), Plain()):
-                found.append(replaced(good, at, wrong))
-            for wrong in (LIMIT + 1, -LIMIT - 1, THOUSAND_DIGITS, -THOUSAND_DIGITS):
-                found.append(replaced(good, at, replaced(good[at], size - 1 - at, wrong)))
-            for _, wrong in not_integers():
-                found.append(replaced(good, at, replaced(good[at], at, wrong)))
-    return found
-
 
 def wrong_indices(size):
     """Return values that are not a nonempty ascending tuple of indices."""

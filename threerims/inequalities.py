@@ -77,14 +77,19 @@ def check_tiling_answer(a, b, c, value):
         raise InvalidAnswer("inequality")
 
 
+def check_form(answer, kinds):
+    """Raise InvalidAnswer if the answer is not a pair that begins with one of the kinds."""
+    if not isinstance(answer, tuple) or len(answer) != 2:
+        raise InvalidAnswer("form")
+    if not isinstance(answer[0], str) or answer[0] not in kinds:
+        raise InvalidAnswer("form")
+
+
 def check_decision(a, b, c, answer):
     """Return the first item of the answer if the answer is correct, and raise InvalidAnswer otherwise."""
     check_equal_sizes((a, b, c))
-    if not isinstance(answer, tuple) or len(answer) != 2:
-        raise InvalidAnswer("form")
+    check_form(answer, ANSWERS)
     kind, value = answer
-    if not isinstance(kind, str) or kind not in ANSWERS:
-        raise InvalidAnswer("form")
     if kind == "sums":
         check_sums_answer(a, b, c, value)
     elif kind == "array":

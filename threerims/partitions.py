@@ -10,14 +10,27 @@ def is_integer(value):
     return isinstance(value, int) and not isinstance(value, bool)
 
 
-def check_partition(value):
-    """Return None if the value is a partition, and raise InvalidPartition otherwise."""
-    if not isinstance(value, tuple) or not 1 <= len(value) <= MAX_SIZE:
-        raise InvalidPartition(None)
+def check_descending(value):
+    """Raise InvalidPartition if an item of the tuple is not an integer or is greater than the item before it."""
     for position, item in enumerate(value):
         if not is_integer(item):
             raise InvalidPartition(position)
         if position > 0 and item > value[position - 1]:
+            raise InvalidPartition(position)
+
+
+def check_partition(value):
+    """Return None if the value is a partition, and raise InvalidPartition otherwise."""
+    if not isinstance(value, tuple) or not 1 <= len(value) <= MAX_SIZE:
+        raise InvalidPartition(None)
+    check_descending(value)
+
+
+def check_nonnegative(value):
+    """Return None if the value is a nonnegative partition, and raise InvalidPartition otherwise."""
+    check_partition(value)
+    for position, item in enumerate(value):
+        if item < 0:
             raise InvalidPartition(position)
 
 
@@ -34,6 +47,11 @@ def check_equal_sizes(values):
     """Check every value as a partition, and raise SizeMismatch if their sizes are not all equal."""
     for value in values:
         check_partition(value)
+    compare_sizes(values)
+
+
+def compare_sizes(values):
+    """Raise SizeMismatch if the sizes of the tuples are not all equal."""
     sizes = tuple([len(value) for value in values])
     if min(sizes) != max(sizes):
         raise SizeMismatch(sizes)
