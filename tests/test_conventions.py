@@ -7,15 +7,19 @@ import weakref
 
 from threerims import (
     arrays,
+    catalogue,
     chains,
     concave,
+    console,
     exponents,
     factors,
     inequalities,
     matrices,
     partitions,
+    products,
     tableaux,
     tilings,
+    turning,
 )
 from threerims.errors import ThreerimsError
 from tests.helper import E, HUGE, Plain, TestCase, bowl, make
@@ -101,6 +105,12 @@ CALLS = (
     (chains, "is_chain", {"value": ((1, 0), (2, 1))}),
     (chains, "raises_of", {"chain": ((1, 0), (2, 1))}),
     (chains, "chain_of", {"base": (1, 0), "tableau": ((1,), (1, 0))}),
+    (products, "dimension", {"partition": (2, 1, 0)}),
+    (products, "multiplicities", {"a": (3, 1), "b": (2, 0)}),
+    (turning, "cross_pair", {"first": E, "second": ((0,), (2, 3), (2, 3, 4))}),
+    (turning, "stack_pair", {"first": E, "second": ((0,), (2, 4), (2, 4, 4))}),
+    (catalogue, "Catalogue", {"size": 2, "prime": 5}),
+    (catalogue, "read_catalogue", {"text": "catalogue 2 5\npartition abc 2 1"}),
 )
 
 # The functions that return a list, with more valid arguments.
@@ -114,6 +124,8 @@ LISTS = (
     (tilings.tilings_with, (3, (), (), (1,))),
     (inequalities.violated, ((2, 0), (0, 0), (1, 1))),
     (inequalities.violated, ((2, 0), (0, 0), (2, 0))),
+    (catalogue.read_catalogue("catalogue 1 2\npartition b 1\npartition c 0").names, ()),
+    (catalogue.Catalogue(1, 2).names, ()),
 )
 
 

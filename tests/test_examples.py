@@ -2,16 +2,20 @@
 
 from threerims import (
     arrays,
+    catalogue,
     chains,
     concave,
+    console,
     errors,
     exponents,
     factors,
     inequalities,
     matrices,
     partitions,
+    products,
     tableaux,
     tilings,
+    turning,
 )
 from tests.helper import E, TestCase
 
@@ -86,6 +90,12 @@ RETURNS = (
     ("is_chain(((1, 0), (2, 0), (2, 1)))", "False"),
     ("raises_of(((1, 0), (2, 1)))", "((1,), (1, 0))"),
     ("chain_of((1, 0), ((1,), (1, 0)))", "((1, 0), (2, 1))"),
+    ("MAX_FILLED", "8"),
+    ("dimension((2, 1, 0))", "8"),
+    ("multiplicities((1, 0), (1, 0))", "(((2, 0), 1), ((1, 1), 1))"),
+    ("cross_pair(((0,), (1, 2)), ((0,), (2, 2)))", "(((0,), (1, 1)), ((0,), (1, 2)))"),
+    ("MAX_STORED", "12"),
+    ('Console().run("names")', '"no catalogue"'),
 )
 
 # What is called, the exception that it raises, and the field of that exception.
@@ -94,6 +104,8 @@ RAISES = (
     ("check_array(((0,), (1,)))", "InvalidArray(1)", "row"),
     ('check_tiling(2, ((("flat", 0, 0), ("left", 1, 1)), None))', "InvalidTiling(1)", "index"),
     ("check_prime(1)", "InvalidPrime(1)", "value"),
+    ('read_catalogue("catalogue 2 5\\npartition a 2 x")', "ParseError(2, 4)", "line"),
+    ('read_catalogue("catalogue 2 5\\npartition a 2 x")', "ParseError(2, 4)", "word"),
 )
 
 
@@ -101,7 +113,7 @@ class Examples(TestCase):
 
     def known_names(self):
         modules = (errors, partitions, arrays, concave, tilings, inequalities, matrices, exponents, tableaux, factors,
-                   chains)
+                   chains, products, turning, catalogue, console)
         return {name: value for module in modules for name, value in vars(module).items()} | {"E": E}
 
     def test_returned_values(self):

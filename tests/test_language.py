@@ -309,8 +309,35 @@ def check_sets(name, tree):
     return found
 
 
+def check_equality(name, tree):
+    """L7, L25: what the package must not contain because one of its classes has an __eq__."""
+    found = []
+    for node in ast.walk(tree):
+        if not isinstance(node, ast.Call):
+            continue
+        called = node.func.id if isinstance(node.func, ast.Name) else ""
+        if called in ("any", "all", "min", "max", "sum", "sorted"):
+            found.extend(f"L7: {called} in line {node.lineno}" for each in node.args if isinstance(each, ast.GeneratorExp))
+        if isinstance(node.func, ast.Attribute) and node.func.attr == "sort":
+            found.append(f"L25: sort in line {node.lineno}")
+    return found
+
+
+def check_powers(name, tree):
+    """L27: what an exponent may be."""
+    found = []
+    for node in ast.walk(tree):
+        if isinstance(node, ast.BinOp) and isinstance(node.op, ast.Pow):
+            right = node.right
+            literal = isinstance(right, ast.Constant) and isinstance(right.value, int) and 0 <= right.value <= 64
+            rest = isinstance(right, ast.BinOp) and isinstance(right.op, ast.Mod)
+            if not literal and not rest and not isinstance(right, ast.Name):
+                found.append(f"L27: exponent in line {node.lineno}")
+    return found
+
+
 TREE_CHECKS = (check_imports, check_module_level, check_functions, check_statements, check_builtins,
-               check_bound_names, check_attributes, check_words, check_sets)
+               check_bound_names, check_attributes, check_words, check_sets, check_equality, check_powers)
 
 
 def parse(text):
@@ -446,6 +473,11 @@ class Checks(unittest.TestCase):
         "X = 1  # " + "x" * 120 + "\n",
         "# x\n" * 400,
         "def f(x):\n    return type('A', (), {})\n\n\ndef type(x):\n    return x\n",
+        "def f(x):\n    return all(k > 0 for k in x)\n",
+        "def f(x):\n    return sorted((k for k in x), reverse=True)\n",
+        "def f(x):\n    x.sort()\n    return x\n",
+        "def f(x):\n    return 2 ** len(x)\n",
+        "def f(x):\n    return x ** 65\n",
     )
 
     KEPT = (
@@ -454,6 +486,7 @@ class Checks(unittest.TestCase):
         "def f(x, *, y=None):\n    return [k for k in x if k in {1, 2, 3}] + sorted(x, key=len, reverse=True)\n",
         "def f(x):\n    try:\n        return x[0]\n    except (KeyError, IndexError):\n        raise ValueError('x')\n",
         "class A:\n    @property\n    def many(self):\n        return 1\n\n    def hash(self):\n        return 2\n",
+        "def f(x):\n    return all([k > 0 for k in x]) and list(k ** 2 for k in x)\n",
     )
 
     def test_broken_files_are_found(self):
