@@ -1,17 +1,21 @@
 """threerims.tilings: every function against lists that are made from [17] and [18] alone, and wrong values."""
 
 import itertools
+import sys
 import time
 
 from threerims import tilings as module
 from threerims.concave import count_solutions
 from threerims.errors import InvalidPositions, InvalidSize, InvalidTiling, LimitExceeded
+from threerims.inequalities import violated
 from threerims.tilings import border_sets, check_tiling, edge_labels, is_tiling, tilings, tilings_with
 from tests.helper import (
     HUGE,
+    RHOMBUSES,
     SIZES,
     THOUSAND_DIGITS,
     TILINGS_OF_SIZE_6,
+    Numbers,
     TestCase,
     changed_tilings,
     defined_labels,
@@ -20,6 +24,7 @@ from tests.helper import (
     doubled,
     known_tilings,
     not_integers,
+    parts,
     separate_rhombuses,
     tiling_fault,
     wrong_tilings,
@@ -57,6 +62,24 @@ def sets_by_program(size):
 def from_positions(positions):
     """Return the partition (I[m] - m, ..., I[1] - 1) of [43]."""
     return tuple(position - at for at, position in enumerate(positions, 1))[::-1]
+
+
+def lines_run(call, *args):
+    """Return how many lines of Python the call runs."""
+    lines = 0
+
+    def count(frame, event, arg):
+        nonlocal lines
+        lines += event == "line"
+        return count
+
+    before = sys.gettrace()
+    sys.settrace(count)
+    try:
+        call(*args)
+    finally:
+        sys.settrace(before)
+    return lines
 
 
 class CheckTiling(TestCase):
@@ -102,6 +125,25 @@ class CheckTiling(TestCase):
             for items in itertools.product(every, repeat=2):
                 self.assert_checked(size, (items, None))
 
+    def test_some_sets_of_rhombuses_of_larger_sizes(self):
+        seen = set()
+        for size in (5, 6):
+            numbers, every = Numbers(size), sorted(RHOMBUSES[size])
+            for _ in range(1500):
+                chosen, taken = [], set()
+                for _ in range(1 + numbers.below(9)):
+                    rhombus = every[numbers.below(len(every))]
+                    if not taken & set(parts(rhombus)):
+                        chosen.append(rhombus)
+                        taken |= set(parts(rhombus))
+                seen.update(self.assert_checked(size, (tuple(sorted(chosen)), None)) or ["none"])
+        self.assertEqual(seen, {"labels", "none"})
+
+    def test_parts_of_tilings_of_size_5(self):
+        for items, _ in tilings(5):
+            for at in range(len(items)):
+                self.assertEqual(self.assert_checked(5, (items[:at] + items[at + 1:], None)), ["labels"])
+
     def test_labels_come_before_the_label(self):
         self.assert_raises(InvalidTiling, {"index": "labels"}, check_tiling, 3, ((("flat", 0, 0),), 5))
         self.assert_raises(InvalidTiling, {"index": "label"}, check_tiling, 2, ((("flat", 0, 0),), 5))
@@ -144,6 +186,18 @@ class Labels(TestCase):
                 labels = defined_labels(size, chosen, label)
                 self.assert_same(edge_labels(size, (chosen, label)), tuple(sorted(labels.items())))
                 self.assert_same(border_sets(size, (chosen, label)), defined_sets(size, labels))
+
+    def test_all_tilings_of_size_6(self):
+        # No function of the interface lists them.
+        found = module.all_tilings(6)
+        for (chosen, label), sets in found:
+            labels = defined_labels(6, chosen, label)
+            self.assertEqual(tiling_fault(6, (chosen, label)), [])
+            self.assertIsNone(check_tiling(6, (chosen, label)))
+            self.assert_same(edge_labels(6, (chosen, label)), tuple(sorted(labels.items())))
+            self.assert_same(border_sets(6, (chosen, label)), defined_sets(6, labels))
+            self.assert_same(sets, defined_sets(6, labels))
+        self.assertTrue({tiling for tiling, _ in found} >= set(TILINGS_OF_SIZE_6))
 
     def test_tilings_without_a_rhombus(self):
         for size in SIZES:
@@ -267,3 +321,18 @@ class Times(TestCase):
             start = time.process_time()
             call(*args)
             self.assertLess(time.process_time() - start, 5)
+
+    def test_lines_that_are_run(self):
+        # A fourth of what the first way to these answers ran. Lines are counted because times differ from run to run.
+        border = (4, 3, 2, 1, 0)
+        for limit, call, *args in (
+            (78000, tilings, 5),
+            (78000, violated, border, border, (8, 6, 4, 2, 0)),
+            (1980, check_tiling, 6, ((), 0)),
+            (1270, check_tiling, 5, ((), 0)),
+            (1350, tilings_with, 5, (1, 3), (2, 4), (2, 5)),
+        ):
+            self.assertLess(lines_run(call, *args), limit, call.__name__)
+        for tiling in tilings(5):
+            for function in (check_tiling, edge_labels, border_sets):
+                self.assertLess(lines_run(function, 5, tiling), 640 if tiling[0] else 1270, function.__name__)

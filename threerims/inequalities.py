@@ -4,7 +4,7 @@ from threerims.arrays import borders, check_array, is_array, is_concave, measure
 from threerims.concave import solutions
 from threerims.errors import InvalidAnswer, LimitExceeded
 from threerims.partitions import check_equal_sizes, is_integer
-from threerims.tilings import MAX_TILING_SIZE, border_sets, check_tiling, find_tilings, is_tiling
+from threerims.tilings import MAX_TILING_SIZE, all_tilings, border_sets, check_tiling, is_tiling
 
 ANSWERS = ("sums", "array", "tiling")
 
@@ -38,7 +38,7 @@ def violated(a, b, c):
     check_equal_sizes((a, b, c))
     if len(a) > MAX_TILING_SIZE:
         raise LimitExceeded(MAX_TILING_SIZE)
-    return [tiling for tiling, sets in find_tilings(len(a), {}) if measure_gap(a, b, c, sets) < 0]
+    return [tiling for tiling, sets in all_tilings(len(a)) if measure_gap(a, b, c, sets) < 0]
 
 
 def sum_difference(a, b, c):
