@@ -27,8 +27,11 @@ def smaller_partitions(partition):
     found = [()]
     for at in range(len(partition) - 1):
         # Below a place with the greatest entry there is no further place.
-        entries = range(partition[at + 1], partition[at] + 1)
-        found = [chosen + (item,) for chosen in found for item in entries]
+        found = [
+            chosen + (item,)
+            for chosen in found
+            for item in range(partition[at + 1], partition[at] + 1)
+        ]
     return found
 
 
